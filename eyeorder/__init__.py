@@ -1,0 +1,1 @@
+"""Eyeorder: what an eye sees in a house of walls."""

@@ -1,0 +1,1 @@
+"""The tests of eyeorder; they rest on nothing but what the document promises."""
