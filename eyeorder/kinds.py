@@ -19,3 +19,13 @@ def is_name(thing):
     if not isinstance(thing, str) or not 1 <= len(thing) <= LONGEST_NAME:
         return False
     return thing[0] in LETTERS and all([sign in LETTERS + DIGITS for sign in thing])
+
+
+def same(thing, value):
+    """Whether any value is just this value of tuples, integers, strings and None."""
+    # A plain comparison would take True for 1.
+    if isinstance(value, tuple):
+        if not isinstance(thing, tuple) or len(thing) != len(value):
+            return False
+        return all([same(part, other) for part, other in zip(thing, value)])
+    return thing == value and not isinstance(thing, bool)

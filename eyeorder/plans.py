@@ -16,8 +16,7 @@ def fault(walls):
 
 
 def plan_text(plan):
-    if not is_plan(plan):
-        raise BadPlan(plan)
+    check_plan(plan)
     return "\n".join([told(one) for one in plan])
 
 
@@ -34,6 +33,11 @@ def read_plan(text):
             raise BadText(number)
         walls.append(one)
     return tuple(walls)
+
+
+def check_plan(thing):
+    if not is_plan(thing):
+        raise BadPlan(thing)
 
 
 def is_named_segment(thing):
