@@ -58,11 +58,37 @@ def node_breaches(node):
         yield "L15: a parameter with the name of a builtin: " + node.arg
 
 
+def taken_names(tree):
+    """The names of the imports and the classes of a file, which nothing else in it may have."""
+    imports = [alias.name for node in tree.body if isinstance(node, ast.ImportFrom) for alias in node.names]
+    return {*imports, *[node.name for node in tree.body if isinstance(node, ast.ClassDef)]}
+
+
+def name_breaches(node, taken):
+    if isinstance(node, ast.arg) and node.arg in taken:
+        yield "L15: a parameter with the name of an import or a class: " + node.arg
+    if isinstance(node, ast.Name) and isinstance(node.ctx, ast.Store) and node.id in taken:
+        yield "L15: a variable with the name of an import or a class: " + node.id
+
+
+def class_breaches(node):
+    """A name that is a method and an attribute of one class, and attributes that L26 does not let stand."""
+    if not isinstance(node, ast.ClassDef):
+        return
+    methods = {part.name for part in node.body if isinstance(part, ast.FunctionDef)}
+    for part in ast.walk(node):
+        if isinstance(part, ast.Attribute) and isinstance(part.ctx, ast.Store):
+            if part.attr in methods or part.attr in dir(list) + dir(dict) + dir(str) + ["args"]:
+                yield "L18, L26: the attribute " + part.attr
+
+
 def breaches(path):
     text = path.read_text(encoding="utf-8")
     yield from text_breaches(text)
-    for node in ast.walk(compile(text, str(path), "exec", ast.PyCF_ONLY_AST)):
-        for breach in node_breaches(node):
+    tree = compile(text, str(path), "exec", ast.PyCF_ONLY_AST)
+    taken = taken_names(tree)
+    for node in ast.walk(tree):
+        for breach in [*node_breaches(node), *name_breaches(node, taken), *class_breaches(node)]:
             yield getattr(node, "lineno", 0), breach
 
 

@@ -43,10 +43,10 @@ def side(line, p):
     """1, 0 or -1 if the place is on the left of the line, on it, or on its right."""
     check_line(line)
     check_place(p)
-    worth = line[0] * p[0] + line[1] * p[1] + line[2] * p[2]
-    if worth == 0:
+    found = worth(line, p)
+    if found == 0:
         return 0
-    return 1 if worth > 0 else -1
+    return 1 if found > 0 else -1
 
 
 def meeting(one, other):
@@ -65,6 +65,10 @@ def check_place(thing):
 def check_line(thing):
     if not is_line(thing):
         raise BadLine(thing)
+
+
+def worth(line, p):
+    return line[0] * p[0] + line[1] * p[1] + line[2] * p[2]
 
 
 def reduced(triple):
