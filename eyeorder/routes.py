@@ -38,8 +38,8 @@ def ways_from(table, route):
     waiting = [route[-1]]
     while waiting:
         cell = waiting.pop(0)
-        for chain, cells in longer(table, ways[cell], (cell,)):
-            to = cells[-1]
+        steps = longer(table, ways[cell], (cell,))
+        for chain, (_, to) in steps:
             if to not in ways and to not in route:
                 ways[to] = chain
                 waiting.append(to)

@@ -461,6 +461,12 @@ class Ways(CellCase):
                              ((1, 1, 2, 3, 4), False), ((0, 1, 2, 3, 4), False), ((1, 2, 3, 4, 5), False),
                              ((True, 2, 3, 4), False), ([1, 2, 3, 4], False), ((2, 1, 3, 4), False)]:
             self.assert_same(way_holds(closed, tree, AROUND, 1, 0, ("shut", told)), wanted)
+        table = openings(closed, tree, AROUND)
+        for thing in variants(("shut", (0,))):
+            self.assert_same(way_holds(closed, tree, AROUND, 0, 1, thing),
+                             way_holds_by_the_words(table, 5, 0, 1, thing))
+        for kind in ["Shut", "shut ", "way", "hidden", "", None, True, ("shut",), ["shut"]]:
+            self.assert_same(way_holds(closed, tree, AROUND, 0, 1, (kind, (0,))), False)
         self.assertGreater(self.assert_ways(closed, tree, AROUND), 0)
         self.assertEqual(self.assert_ways(ROOM, built(ROOM, ("a", "b", "d", "e", "c")), AROUND), 0)
 
